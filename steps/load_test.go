@@ -1,0 +1,226 @@
+package steps
+
+import (
+	"slices"
+	"testing"
+
+	"readmost/api"
+	"readmost/state"
+)
+
+var (
+	goesOn  = api.Result{}
+	nothing = api.Result{Done: true}
+)
+
+func found(value int) api.Result { return api.Result{Done: true, Found: true, Value: value} }
+
+func entryWith(stands, value int) *state.Entry {
+	e := &state.Entry{}
+	e.Set(state.Content{State: stands, Value: value})
+	return e
+}
+
+func sharing(read state.Table, amended bool, dirty state.Table) *state.Shared {
+	s := state.New()
+	s.Read.Set(state.Read{Table: read, Amended: amended})
+	s.Dirty.Set(state.Dirty{Table: dirty, There: dirty != state.Table{}})
+	return s
+}
+
+func loading(s *state.Shared, number, key int) *Thread {
+	th := New(number, s)
+	th.Begin(api.Op{Kind: api.Load, Key: key})
+	return th
+}
+
+func wantStep(t *testing.T, th *Thread, what string, want api.Result) {
+	t.Helper()
+	got, errno := th.Step()
+	if got != want || errno != api.OK {
+		t.Errorf("P5: %s = %+v, %d; want %+v, 0", what, got, errno, want)
+	}
+	if th.Busy() == want.Done {
+		t.Errorf("P5: %s: busy is %t", what, th.Busy())
+	}
+}
+
+// sameView takes a list of nothing for one, nil or not.
+func sameView(a, b api.View) bool {
+	return slices.Equal(a.Read, b.Read) && a.Amended == b.Amended && a.HasDirty == b.HasDirty && slices.Equal(a.Dirty, b.Dirty) && a.Misses == b.Misses && a.Holder == b.Holder
+}
+
+func wantView(t *testing.T, s *state.Shared, what string, want api.View) {
+	t.Helper()
+	if got := s.View(); !sameView(got, want) {
+		t.Errorf("P5: behind %s the view is %+v; want %+v", what, got, want)
+	}
+}
+
+func value(key, value int) api.Entry { return api.Entry{Key: key, State: api.Value, Value: value} }
+
+func TestLoadFromNothing(t *testing.T) {
+	s := state.New()
+	for _, key := range []int{0, 7} {
+		wantStep(t, loading(s, 0, key), "1", nothing)
+		wantView(t, s, "1", api.View{Holder: -1})
+	}
+}
+
+func TestLoadWhatReadHas(t *testing.T) {
+	read := state.Table{0: entryWith(api.Value, 1), 3: entryWith(api.Empty, 0), 5: entryWith(api.Gone, 0), 7: entryWith(api.Value, 1000)}
+	for _, amended := range []bool{false, true} {
+		for key, want := range map[int]api.Result{0: found(1), 3: nothing, 5: nothing, 7: found(1000)} {
+			s := sharing(read, amended, state.Table{})
+			th := loading(s, 0, key)
+			before := s.View()
+			wantStep(t, th, "1", goesOn)
+			wantStep(t, th, "7", want)
+			wantView(t, s, "7", api.View{Read: before.Read, Amended: amended, Holder: -1})
+		}
+	}
+	wantStep(t, loading(sharing(read, false, state.Table{}), 0, 4), "1", nothing)
+}
+
+// The document's example: DIRTY has one key, so the first miss puts it in READ's place.
+func TestLoadThatPutsDirtyInReadsPlace(t *testing.T) {
+	s := sharing(state.Table{}, true, state.Table{3: entryWith(api.Value, 5)})
+	list := []api.Entry{value(3, 5)}
+	th := loading(s, 1, 3)
+	for _, at := range []struct {
+		step   string
+		result api.Result
+		view   api.View
+	}{
+		{"1", goesOn, api.View{Amended: true, HasDirty: true, Dirty: list, Holder: -1}},
+		{"2", goesOn, api.View{Amended: true, HasDirty: true, Dirty: list, Holder: 1}},
+		{"3", goesOn, api.View{Amended: true, HasDirty: true, Dirty: list, Holder: 1}},
+		{"4", goesOn, api.View{Amended: true, HasDirty: true, Dirty: list, Holder: 1}},
+		{"5", goesOn, api.View{Amended: true, HasDirty: true, Dirty: list, Misses: 1, Holder: 1}},
+		{"5a", goesOn, api.View{Read: list, HasDirty: true, Dirty: list, Misses: 1, Holder: 1}},
+		{"5b", goesOn, api.View{Read: list, Misses: 1, Holder: 1}},
+		{"5c", goesOn, api.View{Read: list, Holder: 1}},
+		{"6", goesOn, api.View{Read: list, Holder: -1}},
+		{"7", found(5), api.View{Read: list, Holder: -1}},
+	} {
+		wantStep(t, th, at.step, at.result)
+		wantView(t, s, at.step, at.view)
+	}
+	again := loading(s, 1, 3)
+	wantStep(t, again, "1 again", goesOn)
+	wantStep(t, again, "7 again", found(5))
+	wantStep(t, loading(s, 1, 4), "1 of key 4", nothing)
+}
+
+// Misses below the number of DIRTY's keys leave it where it is, found or not.
+func TestLoadThatMisses(t *testing.T) {
+	s := sharing(state.Table{2: entryWith(api.Value, 9)}, true, state.Table{2: entryWith(api.Value, 9), 3: entryWith(api.Value, 5), 4: entryWith(api.Empty, 0)})
+	before := s.View()
+	absent := loading(s, 0, 6)
+	for _, step := range []string{"1", "2", "3", "4", "5"} {
+		wantStep(t, absent, step, goesOn)
+	}
+	wantView(t, s, "5", api.View{Read: before.Read, Amended: true, HasDirty: true, Dirty: before.Dirty, Misses: 1, Holder: 0})
+	wantStep(t, absent, "6", nothing)
+	wantView(t, s, "6", api.View{Read: before.Read, Amended: true, HasDirty: true, Dirty: before.Dirty, Misses: 1, Holder: -1})
+	there := loading(s, 0, 3)
+	for _, step := range []string{"1", "2", "3", "4", "5", "6"} {
+		wantStep(t, there, step, goesOn)
+	}
+	wantStep(t, there, "7", found(5))
+	last := loading(s, 0, 6)
+	for _, step := range []string{"1", "2", "3", "4", "5", "5a", "5b", "5c"} {
+		wantStep(t, last, step, goesOn)
+	}
+	wantStep(t, last, "6", nothing)
+	wantView(t, s, "the third miss", api.View{Read: before.Dirty, Holder: -1})
+}
+
+func TestLoadBlocked(t *testing.T) {
+	s := sharing(state.Table{}, true, state.Table{3: entryWith(api.Value, 5), 4: entryWith(api.Value, 6)})
+	one, other := loading(s, 0, 3), loading(s, 5, 4)
+	wantStep(t, one, "1", goesOn)
+	wantStep(t, other, "the other's 1", goesOn)
+	wantStep(t, one, "2", goesOn)
+	for _, step := range []string{"3", "4", "5", "6"} {
+		for range 3 {
+			before := s.View()
+			if r, errno := other.Step(); r != (api.Result{}) || errno != api.ErrBlocked {
+				t.Errorf("P5: the other's 2, while the lock is held = %+v, %d", r, errno)
+			}
+			wantView(t, s, "a step that is blocked", before)
+		}
+		wantStep(t, one, step, goesOn)
+	}
+	wantStep(t, other, "the other's 2", goesOn)
+	if holder := s.View().Holder; holder != 5 {
+		t.Errorf("P9: the lock's holder = %d", holder)
+	}
+	wantStep(t, one, "7", found(5))
+}
+
+// Between 1 and 3 another thread puts DIRTY in READ's place.
+func TestLoadThatFindsReadChanged(t *testing.T) {
+	for key, want := range map[int][]api.Result{3: {goesOn, found(5)}, 6: {nothing}} {
+		s := sharing(state.Table{}, true, state.Table{3: entryWith(api.Value, 5)})
+		late, first := loading(s, 0, key), loading(s, 1, 3)
+		wantStep(t, late, "1", goesOn)
+		for first.Busy() {
+			first.Step()
+		}
+		wantStep(t, late, "2", goesOn)
+		wantStep(t, late, "3", goesOn)
+		for _, result := range want {
+			wantStep(t, late, "6 and 7", result)
+		}
+		wantView(t, s, "these", api.View{Read: []api.Entry{value(3, 5)}, Holder: -1})
+	}
+}
+
+// READ may have the key at 3 and be amended: then DIRTY is not looked at, and nothing is missed.
+func TestLoadThatFindsReadChangedAndAmended(t *testing.T) {
+	s := sharing(state.Table{}, true, state.Table{3: entryWith(api.Value, 5)})
+	th := loading(s, 0, 3)
+	wantStep(t, th, "1", goesOn)
+	s.Read.Set(state.Read{Table: s.Dirty.Look().Table, Amended: true})
+	before := s.View()
+	for _, step := range []string{"2", "3", "6"} {
+		wantStep(t, th, step, goesOn)
+	}
+	wantStep(t, th, "7", found(5))
+	wantView(t, s, "these", before)
+}
+
+// A load tells how it stands with the entry at its last step, not when it found it.
+func TestLoadLooksAtTheEntryLast(t *testing.T) {
+	e := entryWith(api.Value, 5)
+	s := sharing(state.Table{3: e}, false, state.Table{})
+	changed, deleted := loading(s, 0, 3), loading(s, 1, 3)
+	wantStep(t, changed, "1", goesOn)
+	wantStep(t, deleted, "1", goesOn)
+	e.Set(state.Content{State: api.Value, Value: 8})
+	wantStep(t, changed, "7", found(8))
+	e.Set(state.Content{State: api.Empty})
+	wantStep(t, deleted, "7", nothing)
+}
+
+func TestStepOfAThreadAtNothing(t *testing.T) {
+	th := New(0, state.New())
+	if r, errno := th.Step(); r != (api.Result{}) || errno != api.ErrIdle || th.Busy() {
+		t.Errorf("P5: Step of a thread at nothing = %+v, %d", r, errno)
+	}
+}
+
+// For now: a thread at another operation stays at it, and what threads share stays as it is.
+func TestStepsOfTheOthersDoNothing(t *testing.T) {
+	for _, kind := range []int{api.Store, api.Delete, api.Replace} {
+		s := sharing(state.Table{2: entryWith(api.Value, 9)}, true, state.Table{3: entryWith(api.Value, 5)})
+		before := s.View()
+		th := New(0, s)
+		th.Begin(api.Op{Kind: kind, Key: 2, Value: 1, Old: 9})
+		for range 40 {
+			wantStep(t, th, "a step that does nothing", goesOn)
+		}
+		wantView(t, s, "these", before)
+	}
+}
