@@ -1,12 +1,10 @@
 package readmost
 
 import (
-	"reflect"
 	"sync"
 	"testing"
 
 	"readmost/api"
-	"readmost/state"
 )
 
 var farOutside = []int{-1, -2, 1 << 31, -1 << 31, 1 << 32, 1 << 62, -1 << 62, 1<<63 - 1, -1 << 63}
@@ -42,13 +40,32 @@ func wantBeginning(t *testing.T, m *Map) {
 	}
 }
 
-// fill lets a map have keys before there is a step that stores them: READ has 0, DIRTY 0 and 7.
-func fill(m *Map) {
-	least, greatest := &state.Entry{}, &state.Entry{}
-	least.Set(state.Content{State: api.Value, Value: 1})
-	greatest.Set(state.Content{State: api.Value, Value: 1000})
-	m.shared.Read.Set(state.Read{Table: state.Table{0: least}, Amended: true})
-	m.shared.Dirty.Set(state.Dirty{Table: state.Table{0: least, 7: greatest}, There: true})
+// does lets a thread do an operation that is done with the last of so many steps.
+func does(t *testing.T, m *Map, thread int, op api.Op, steps int, want api.Result) {
+	t.Helper()
+	wantBegin(t, m, thread, op, api.OK)
+	goes(t, m, thread, steps-1)
+	wantStep(t, m, thread, want, api.OK)
+	wantStep(t, m, thread, api.Result{}, api.ErrIdle)
+}
+
+// goes lets a thread do so many steps at none of which it is done.
+func goes(t *testing.T, m *Map, thread, steps int) {
+	t.Helper()
+	for range steps {
+		wantStep(t, m, thread, api.Result{}, api.OK)
+	}
+}
+
+func found(value int) api.Result { return api.Result{Done: true, Found: true, Value: value} }
+
+// fill lets a new map have keys: READ has 0, DIRTY 0 and 7.
+func fill(t *testing.T, m *Map) {
+	t.Helper()
+	does(t, m, 0, store(0, 1), 8, found(1))
+	does(t, m, 0, load(0), 10, found(1))
+	does(t, m, 0, store(7, 1000), 9, found(1000))
+	wantView(t, m, filledView(0, -1))
 }
 
 func filledView(misses, holder int) api.View {
@@ -58,7 +75,7 @@ func filledView(misses, holder int) api.View {
 
 func wantView(t *testing.T, m *Map, want api.View) {
 	t.Helper()
-	if got := m.Look(); !reflect.DeepEqual(got, want) {
+	if got := m.Look(); !sameView(got, want) {
 		t.Errorf("P9: Look = %+v; want %+v", got, want)
 	}
 }
@@ -142,7 +159,7 @@ func TestP4WhichErrorIsNamedFirst(t *testing.T) {
 // P1: the operation that a busy thread is at is not the one that was refused.
 func TestP1AnErrorChangesNothing(t *testing.T) {
 	m := newMap(t, 1)
-	fill(m)
+	fill(t, m)
 	wantBegin(t, m, 0, api.Op{Key: 0}, api.OK)
 	wantStep(t, m, 0, api.Result{}, api.OK)
 	wantBegin(t, m, 0, api.Op{Key: 7}, api.ErrBusy)
@@ -184,7 +201,7 @@ func TestP5LoadFromAMapWithoutKeys(t *testing.T) {
 
 func TestP5LoadsThatWaitForTheLock(t *testing.T) {
 	m := newMap(t, 6)
-	fill(m)
+	fill(t, m)
 	wantBegin(t, m, 0, api.Op{Key: 7}, api.OK)
 	wantBegin(t, m, 5, api.Op{Key: 6}, api.OK)
 	wantStep(t, m, 0, api.Result{}, api.OK) // 1
@@ -210,7 +227,7 @@ func TestP5LoadsThatWaitForTheLock(t *testing.T) {
 
 // For now: the other operations are taken, and their steps do nothing.
 func TestStepsOfTheOthersDoNothing(t *testing.T) {
-	for _, op := range []api.Op{{Kind: api.Store, Value: 1}, {Kind: api.Delete}, {Kind: api.Replace, Value: 1, Old: 2}} {
+	for _, op := range []api.Op{{Kind: api.Delete}, {Kind: api.Replace, Value: 1, Old: 2}} {
 		m := newMap(t, 1)
 		wantBegin(t, m, 0, op, api.OK)
 		for range 40 {
@@ -220,9 +237,108 @@ func TestStepsOfTheOthersDoNothing(t *testing.T) {
 	}
 }
 
+// The document's examples, as far as they store and load.
+func TestP6TheExamples(t *testing.T) {
+	three, four := api.Entry{Key: 3, Value: 5}, api.Entry{Key: 4, Value: 6}
+	m := newMap(t, 1)
+	does(t, m, 0, store(3, 5), 8, found(5))
+	wantView(t, m, api.View{Amended: true, HasDirty: true, Dirty: []api.Entry{three}, Holder: -1})
+	does(t, m, 0, load(3), 10, found(5))
+	wantView(t, m, api.View{Read: []api.Entry{three}, Holder: -1})
+	does(t, m, 0, load(3), 2, found(5))
+	does(t, m, 0, load(4), 1, api.Result{Done: true})
+	does(t, m, 0, store(4, 6), 9, found(6))
+	wantView(t, m, api.View{Read: []api.Entry{three}, Amended: true, HasDirty: true, Dirty: []api.Entry{three, four}, Holder: -1})
+	three.Value = 7
+	does(t, m, 0, store(3, 7), 3, found(7))
+	wantView(t, m, api.View{Read: []api.Entry{three}, Amended: true, HasDirty: true, Dirty: []api.Entry{three, four}, Holder: -1})
+}
+
+func TestP6AllKeysAndTheEdgesOfValues(t *testing.T) {
+	for _, value := range []int{1, 2, 999, 1000} {
+		m := newMap(t, 6)
+		for key := range api.Keys {
+			steps := 6
+			if key == 0 {
+				steps = 8
+			}
+			does(t, m, key%6, store(key, value), steps, found(value))
+		}
+		for misses := 1; misses < api.Keys; misses++ {
+			does(t, m, misses%6, load(misses), 7, found(value))
+			if v := m.Look(); v.Misses != misses || len(v.Read) != 0 || len(v.Dirty) != api.Keys {
+				t.Errorf("P5: behind miss %d the view is %+v", misses, v)
+			}
+		}
+		does(t, m, 5, load(7), 10, found(value))
+		if v := m.Look(); v.Misses != 0 || len(v.Read) != api.Keys || v.Amended || v.HasDirty {
+			t.Errorf("P5: behind the last miss the view is %+v", v)
+		}
+		for key := range api.Keys {
+			does(t, m, 0, load(key), 2, found(value))
+			does(t, m, 0, store(key, 1001-value), 3, found(1001-value))
+		}
+	}
+}
+
+// P1: what is refused while Stores are on their way does not turn them aside.
+func TestP6StoresThatWrongInputsComeBetween(t *testing.T) {
+	m := newMap(t, 2)
+	wantBegin(t, m, 0, store(7, 1000), api.OK)
+	wantBegin(t, m, 1, store(0, 1), api.OK)
+	goes(t, m, 1, 1)
+	for n := range 7 {
+		wantStep(t, m, 0, api.Result{}, api.OK)
+		before := m.Look()
+		for _, far := range farOutside {
+			wantBegin(t, m, far, store(1, 1), api.ErrArg)
+			wantBegin(t, m, 0, store(far, 1), api.ErrArg)
+			wantBegin(t, m, 0, store(1, far), api.ErrArg)
+			wantStep(t, m, far, api.Result{}, api.ErrArg)
+		}
+		wantBegin(t, m, 0, store(1, 1), api.ErrBusy)
+		wantBegin(t, m, 0, load(1), api.ErrBusy)
+		if n > 0 {
+			wantStep(t, m, 1, api.Result{}, api.ErrBlocked)
+		}
+		wantView(t, m, before)
+	}
+	wantStep(t, m, 0, found(1000), api.OK)
+	goes(t, m, 1, 4)
+	wantStep(t, m, 1, found(1), api.OK)
+	wantView(t, m, api.View{Amended: true, HasDirty: true, Dirty: []api.Entry{{Key: 0, Value: 1}, {Key: 7, Value: 1000}}, Holder: -1})
+}
+
+// A map that is closed in the midst of a Store stays as it stands.
+func TestP10CloseInTheMidst(t *testing.T) {
+	m := newMap(t, 2)
+	wantBegin(t, m, 1, store(3, 5), api.OK)
+	goes(t, m, 1, 6)
+	m.Close()
+	for range 3 {
+		wantStep(t, m, 1, api.Result{}, api.ErrClosed)
+		wantBegin(t, m, 0, store(3, 5), api.ErrClosed)
+		wantView(t, m, api.View{Amended: true, HasDirty: true, Holder: 1})
+	}
+}
+
+func TestP2StoresOfOneMapAreNotInAnother(t *testing.T) {
+	one, other := newMap(t, 1), newMap(t, 1)
+	wantBegin(t, one, 0, store(3, 5), api.OK)
+	wantBegin(t, other, 0, store(4, 6), api.OK)
+	for range 7 {
+		goes(t, one, 0, 1)
+		goes(t, other, 0, 1)
+	}
+	wantStep(t, one, 0, found(5), api.OK)
+	wantStep(t, other, 0, found(6), api.OK)
+	wantView(t, one, api.View{Amended: true, HasDirty: true, Dirty: []api.Entry{{Key: 3, Value: 5}}, Holder: -1})
+	wantView(t, other, api.View{Amended: true, HasDirty: true, Dirty: []api.Entry{{Key: 4, Value: 6}}, Holder: -1})
+}
+
 func TestP2MapsDoNotTouchOneAnother(t *testing.T) {
 	one, other := newMap(t, 1), newMap(t, 1)
-	fill(one)
+	fill(t, one)
 	wantBegin(t, one, 0, api.Op{Key: 7}, api.OK)
 	wantStep(t, other, 0, api.Result{}, api.ErrIdle)
 	for range 2 {
@@ -236,7 +352,7 @@ func TestP2MapsDoNotTouchOneAnother(t *testing.T) {
 
 func TestP2AViewIsTheCallers(t *testing.T) {
 	m := newMap(t, 1)
-	fill(m)
+	fill(t, m)
 	kept, spoilt := m.Look(), m.Look()
 	for _, list := range [][]api.Entry{spoilt.Read, spoilt.Dirty} {
 		list = list[:cap(list)]
@@ -244,7 +360,7 @@ func TestP2AViewIsTheCallers(t *testing.T) {
 			list[i] = api.Entry{Key: -1}
 		}
 	}
-	if !reflect.DeepEqual(kept, filledView(0, -1)) {
+	if !sameView(kept, filledView(0, -1)) {
 		t.Errorf("P2: writing into a view changed another: %+v", kept)
 	}
 	wantView(t, m, filledView(0, -1))
@@ -252,7 +368,7 @@ func TestP2AViewIsTheCallers(t *testing.T) {
 
 func TestP10CloseAgainIsNothing(t *testing.T) {
 	m := newMap(t, 1)
-	fill(m)
+	fill(t, m)
 	for range 3 {
 		m.Close()
 		wantBegin(t, m, 0, api.Op{}, api.ErrClosed)
@@ -268,8 +384,10 @@ func TestP1CallsFromManySides(t *testing.T) {
 	for thread := range 6 {
 		group.Go(func() {
 			for range 100 {
-				m.Begin(thread, api.Op{Key: thread})
+				m.Begin(thread, store(thread, 1+thread))
 				m.Look()
+				m.Step(thread)
+				m.Begin(thread, load(thread))
 				m.Step(thread)
 			}
 			m.Close()
@@ -277,5 +395,10 @@ func TestP1CallsFromManySides(t *testing.T) {
 	}
 	group.Wait()
 	wantBegin(t, m, 0, api.Op{}, api.ErrClosed)
-	wantBeginning(t, m)
+	v := m.Look()
+	for _, e := range append(v.Read, v.Dirty...) {
+		if e.Value != 1+e.Key {
+			t.Errorf("P1: key %d has %d", e.Key, e.Value)
+		}
+	}
 }

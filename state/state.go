@@ -14,9 +14,19 @@ type Content struct {
 	State, Value int
 }
 
+// Having is the content of an entry that has this value.
+func Having(value int) Content { return Content{State: api.Value, Value: value} }
+
 // Entry can stand in both tables: whoever reached it by the one sees what was done to it by the other.
 type Entry struct {
 	cell.Cell[Content]
+}
+
+// NewEntry makes an entry that has this value.
+func NewEntry(value int) *Entry {
+	e := &Entry{}
+	e.Set(Having(value))
+	return e
 }
 
 // Table has an entry for each of its keys, nil for the others. It is an array so that a table that was looked at stays as it was seen.
@@ -60,6 +70,16 @@ func (t Table) Count() int {
 	return n
 }
 
+// KeyFrom tells the table's next key, by rising keys: the first that is not below least, if there is one.
+func (t Table) KeyFrom(least int) (key int, there bool) {
+	for key := least; key < len(t); key++ {
+		if t[key] != nil {
+			return key, true
+		}
+	}
+	return 0, false
+}
+
 // List tells the table's keys, by rising keys, in new memory.
 func (t Table) List() []api.Entry {
 	list := make([]api.Entry, 0, t.Count())
@@ -71,6 +91,13 @@ func (t Table) List() []api.Entry {
 		list = append(list, api.Entry{Key: key, State: content.State, Value: content.Value})
 	}
 	return list
+}
+
+// PutInDirty lets the dirty table, which must be there, have key with e.
+func (s *Shared) PutInDirty(key int, e *Entry) {
+	dirty := s.Dirty.Look()
+	dirty.Table[key] = e
+	s.Dirty.Set(dirty)
 }
 
 // View tells what stands where.

@@ -103,3 +103,45 @@ func TestP2AViewStaysAsItWasTold(t *testing.T) {
 		t.Errorf("P2: what was done later changed a view: %+v", v)
 	}
 }
+
+func TestKeyFromGoesByRisingKeys(t *testing.T) {
+	table := Table{0: NewEntry(1), 3: entryWith(api.Gone, 0), 7: NewEntry(2)}
+	for least, want := range []int{0, 3, 3, 3, 7, 7, 7, 7} {
+		if key, there := table.KeyFrom(least); key != want || !there {
+			t.Errorf("KeyFrom(%d) = %d, %t; want %d", least, key, there, want)
+		}
+	}
+	if key, there := table.KeyFrom(api.Keys); there {
+		t.Errorf("KeyFrom behind the last key = %d, %t", key, there)
+	}
+	if key, there := (Table{}).KeyFrom(0); there {
+		t.Errorf("KeyFrom of a table without keys = %d, %t", key, there)
+	}
+}
+
+func TestNewEntryHasItsValue(t *testing.T) {
+	for _, value := range []int{1, 1000} {
+		if got := NewEntry(value).Look(); got != (Content{State: api.Value, Value: value}) {
+			t.Errorf("NewEntry(%d) has %v", value, got)
+		}
+	}
+}
+
+// A table that was looked at stays as it was seen.
+func TestPutInDirtyPutsIntoDirtyAlone(t *testing.T) {
+	s := filled()
+	seen := s.Dirty.Look()
+	e := NewEntry(9)
+	s.PutInDirty(6, e)
+	want := append(slices.Clone(filledDirty), api.Entry{Key: 6, State: api.Value, Value: 9})
+	if v := s.View(); !slices.Equal(v.Dirty, want) || !v.HasDirty || !slices.Equal(v.Read, filledRead) {
+		t.Errorf("behind PutInDirty the view = %+v", v)
+	}
+	if s.Dirty.Look().Table[6] != e || seen.Table[6] != nil {
+		t.Error("PutInDirty put another entry, or into a table that was looked at before")
+	}
+	s.PutInDirty(6, entryWith(api.Empty, 0))
+	if list := s.View().Dirty; list[len(list)-1] != (api.Entry{Key: 6, State: api.Empty}) {
+		t.Errorf("behind PutInDirty under a key that was there: %v", list)
+	}
+}

@@ -22,10 +22,7 @@ func (t *Thread) loadLooksAtRead() (api.Result, api.Errno) {
 
 // 2.
 func (t *Thread) loadTakesLock() (api.Result, api.Errno) {
-	if !t.shared.Lock.SetIf(state.Nobody, t.number) {
-		return api.Result{}, api.ErrBlocked
-	}
-	return t.goOn(t.loadLooksAtReadAgain)
+	return t.takeLock(t.loadLooksAtReadAgain)
 }
 
 // 3. READ may have become another before the lock was taken.
@@ -74,7 +71,7 @@ func (t *Thread) loadForgetsMisses() (api.Result, api.Errno) {
 
 // 6.
 func (t *Thread) loadFreesLock() (api.Result, api.Errno) {
-	t.shared.Lock.Set(state.Nobody)
+	t.freeLock()
 	if t.entry == nil {
 		return t.doneWithNothing()
 	}

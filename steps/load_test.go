@@ -1,63 +1,11 @@
 package steps
 
 import (
-	"slices"
 	"testing"
 
 	"readmost/api"
 	"readmost/state"
 )
-
-var (
-	goesOn  = api.Result{}
-	nothing = api.Result{Done: true}
-)
-
-func found(value int) api.Result { return api.Result{Done: true, Found: true, Value: value} }
-
-func entryWith(stands, value int) *state.Entry {
-	e := &state.Entry{}
-	e.Set(state.Content{State: stands, Value: value})
-	return e
-}
-
-func sharing(read state.Table, amended bool, dirty state.Table) *state.Shared {
-	s := state.New()
-	s.Read.Set(state.Read{Table: read, Amended: amended})
-	s.Dirty.Set(state.Dirty{Table: dirty, There: dirty != state.Table{}})
-	return s
-}
-
-func loading(s *state.Shared, number, key int) *Thread {
-	th := New(number, s)
-	th.Begin(api.Op{Kind: api.Load, Key: key})
-	return th
-}
-
-func wantStep(t *testing.T, th *Thread, what string, want api.Result) {
-	t.Helper()
-	got, errno := th.Step()
-	if got != want || errno != api.OK {
-		t.Errorf("P5: %s = %+v, %d; want %+v, 0", what, got, errno, want)
-	}
-	if th.Busy() == want.Done {
-		t.Errorf("P5: %s: busy is %t", what, th.Busy())
-	}
-}
-
-// sameView takes a list of nothing for one, nil or not.
-func sameView(a, b api.View) bool {
-	return slices.Equal(a.Read, b.Read) && a.Amended == b.Amended && a.HasDirty == b.HasDirty && slices.Equal(a.Dirty, b.Dirty) && a.Misses == b.Misses && a.Holder == b.Holder
-}
-
-func wantView(t *testing.T, s *state.Shared, what string, want api.View) {
-	t.Helper()
-	if got := s.View(); !sameView(got, want) {
-		t.Errorf("P5: behind %s the view is %+v; want %+v", what, got, want)
-	}
-}
-
-func value(key, value int) api.Entry { return api.Entry{Key: key, State: api.Value, Value: value} }
 
 func TestLoadFromNothing(t *testing.T) {
 	s := state.New()
@@ -87,25 +35,18 @@ func TestLoadThatPutsDirtyInReadsPlace(t *testing.T) {
 	s := sharing(state.Table{}, true, state.Table{3: entryWith(api.Value, 5)})
 	list := []api.Entry{value(3, 5)}
 	th := loading(s, 1, 3)
-	for _, at := range []struct {
-		step   string
-		result api.Result
-		view   api.View
-	}{
-		{"1", goesOn, api.View{Amended: true, HasDirty: true, Dirty: list, Holder: -1}},
-		{"2", goesOn, api.View{Amended: true, HasDirty: true, Dirty: list, Holder: 1}},
-		{"3", goesOn, api.View{Amended: true, HasDirty: true, Dirty: list, Holder: 1}},
-		{"4", goesOn, api.View{Amended: true, HasDirty: true, Dirty: list, Holder: 1}},
-		{"5", goesOn, api.View{Amended: true, HasDirty: true, Dirty: list, Misses: 1, Holder: 1}},
-		{"5a", goesOn, api.View{Read: list, HasDirty: true, Dirty: list, Misses: 1, Holder: 1}},
-		{"5b", goesOn, api.View{Read: list, Misses: 1, Holder: 1}},
-		{"5c", goesOn, api.View{Read: list, Holder: 1}},
-		{"6", goesOn, api.View{Read: list, Holder: -1}},
-		{"7", found(5), api.View{Read: list, Holder: -1}},
-	} {
-		wantStep(t, th, at.step, at.result)
-		wantView(t, s, at.step, at.view)
-	}
+	wantWalk(t, s, th,
+		seen{"1", goesOn, api.View{Amended: true, HasDirty: true, Dirty: list, Holder: -1}},
+		seen{"2", goesOn, api.View{Amended: true, HasDirty: true, Dirty: list, Holder: 1}},
+		seen{"3", goesOn, api.View{Amended: true, HasDirty: true, Dirty: list, Holder: 1}},
+		seen{"4", goesOn, api.View{Amended: true, HasDirty: true, Dirty: list, Holder: 1}},
+		seen{"5", goesOn, api.View{Amended: true, HasDirty: true, Dirty: list, Misses: 1, Holder: 1}},
+		seen{"5a", goesOn, api.View{Read: list, HasDirty: true, Dirty: list, Misses: 1, Holder: 1}},
+		seen{"5b", goesOn, api.View{Read: list, Misses: 1, Holder: 1}},
+		seen{"5c", goesOn, api.View{Read: list, Holder: 1}},
+		seen{"6", goesOn, api.View{Read: list, Holder: -1}},
+		seen{"7", found(5), api.View{Read: list, Holder: -1}},
+	)
 	again := loading(s, 1, 3)
 	wantStep(t, again, "1 again", goesOn)
 	wantStep(t, again, "7 again", found(5))
@@ -117,21 +58,15 @@ func TestLoadThatMisses(t *testing.T) {
 	s := sharing(state.Table{2: entryWith(api.Value, 9)}, true, state.Table{2: entryWith(api.Value, 9), 3: entryWith(api.Value, 5), 4: entryWith(api.Empty, 0)})
 	before := s.View()
 	absent := loading(s, 0, 6)
-	for _, step := range []string{"1", "2", "3", "4", "5"} {
-		wantStep(t, absent, step, goesOn)
-	}
+	wantSteps(t, absent, "1", "2", "3", "4", "5")
 	wantView(t, s, "5", api.View{Read: before.Read, Amended: true, HasDirty: true, Dirty: before.Dirty, Misses: 1, Holder: 0})
 	wantStep(t, absent, "6", nothing)
 	wantView(t, s, "6", api.View{Read: before.Read, Amended: true, HasDirty: true, Dirty: before.Dirty, Misses: 1, Holder: -1})
 	there := loading(s, 0, 3)
-	for _, step := range []string{"1", "2", "3", "4", "5", "6"} {
-		wantStep(t, there, step, goesOn)
-	}
+	wantSteps(t, there, "1", "2", "3", "4", "5", "6")
 	wantStep(t, there, "7", found(5))
 	last := loading(s, 0, 6)
-	for _, step := range []string{"1", "2", "3", "4", "5", "5a", "5b", "5c"} {
-		wantStep(t, last, step, goesOn)
-	}
+	wantSteps(t, last, "1", "2", "3", "4", "5", "5a", "5b", "5c")
 	wantStep(t, last, "6", nothing)
 	wantView(t, s, "the third miss", api.View{Read: before.Dirty, Holder: -1})
 }
@@ -143,13 +78,7 @@ func TestLoadBlocked(t *testing.T) {
 	wantStep(t, other, "the other's 1", goesOn)
 	wantStep(t, one, "2", goesOn)
 	for _, step := range []string{"3", "4", "5", "6"} {
-		for range 3 {
-			before := s.View()
-			if r, errno := other.Step(); r != (api.Result{}) || errno != api.ErrBlocked {
-				t.Errorf("P5: the other's 2, while the lock is held = %+v, %d", r, errno)
-			}
-			wantView(t, s, "a step that is blocked", before)
-		}
+		wantBlocked(t, s, other)
 		wantStep(t, one, step, goesOn)
 	}
 	wantStep(t, other, "the other's 2", goesOn)
@@ -165,9 +94,7 @@ func TestLoadThatFindsReadChanged(t *testing.T) {
 		s := sharing(state.Table{}, true, state.Table{3: entryWith(api.Value, 5)})
 		late, first := loading(s, 0, key), loading(s, 1, 3)
 		wantStep(t, late, "1", goesOn)
-		for first.Busy() {
-			first.Step()
-		}
+		finish(t, first)
 		wantStep(t, late, "2", goesOn)
 		wantStep(t, late, "3", goesOn)
 		for _, result := range want {
@@ -184,9 +111,7 @@ func TestLoadThatFindsReadChangedAndAmended(t *testing.T) {
 	wantStep(t, th, "1", goesOn)
 	s.Read.Set(state.Read{Table: s.Dirty.Look().Table, Amended: true})
 	before := s.View()
-	for _, step := range []string{"2", "3", "6"} {
-		wantStep(t, th, step, goesOn)
-	}
+	wantSteps(t, th, "2", "3", "6")
 	wantStep(t, th, "7", found(5))
 	wantView(t, s, "these", before)
 }
@@ -202,25 +127,4 @@ func TestLoadLooksAtTheEntryLast(t *testing.T) {
 	wantStep(t, changed, "7", found(8))
 	e.Set(state.Content{State: api.Empty})
 	wantStep(t, deleted, "7", nothing)
-}
-
-func TestStepOfAThreadAtNothing(t *testing.T) {
-	th := New(0, state.New())
-	if r, errno := th.Step(); r != (api.Result{}) || errno != api.ErrIdle || th.Busy() {
-		t.Errorf("P5: Step of a thread at nothing = %+v, %d", r, errno)
-	}
-}
-
-// For now: a thread at another operation stays at it, and what threads share stays as it is.
-func TestStepsOfTheOthersDoNothing(t *testing.T) {
-	for _, kind := range []int{api.Store, api.Delete, api.Replace} {
-		s := sharing(state.Table{2: entryWith(api.Value, 9)}, true, state.Table{3: entryWith(api.Value, 5)})
-		before := s.View()
-		th := New(0, s)
-		th.Begin(api.Op{Kind: kind, Key: 2, Value: 1, Old: 9})
-		for range 40 {
-			wantStep(t, th, "a step that does nothing", goesOn)
-		}
-		wantView(t, s, "these", before)
-	}
 }

@@ -11,11 +11,13 @@ type step func() (api.Result, api.Errno)
 
 // Thread is at an operation, or at nothing.
 type Thread struct {
-	number int
-	shared *state.Shared
-	op     api.Op
-	entry  *state.Entry // the entry that the operation has found so far, or nil
-	next   step         // nil: the thread is at nothing
+	number  int
+	shared  *state.Shared
+	op      api.Op
+	entry   *state.Entry  // the entry that the operation has found so far, or nil
+	seen    state.Content // how the entry stood when it was last looked at
+	copying int           // the key of READ at which the copying into DIRTY stands
+	next    step          // nil: the thread is at nothing
 }
 
 // New makes a thread that is at nothing.
@@ -41,8 +43,11 @@ func (t *Thread) Step() (api.Result, api.Errno) {
 }
 
 func (t *Thread) firstOf(kind int) step {
-	if kind == api.Load {
+	switch kind {
+	case api.Load:
 		return t.loadLooksAtRead
+	case api.Store:
+		return t.storeLooksAtRead
 	}
 	return t.stands
 }
@@ -65,6 +70,15 @@ func (t *Thread) doneWith(value int) (api.Result, api.Errno) {
 
 // done forgets the operation, so that nothing of it reaches into the thread's next one.
 func (t *Thread) done(result api.Result) (api.Result, api.Errno) {
-	t.op, t.entry, t.next = api.Op{}, nil, nil
+	*t = Thread{number: t.number, shared: t.shared}
 	return result, api.OK
 }
+
+func (t *Thread) takeLock(next step) (api.Result, api.Errno) {
+	if !t.shared.Lock.SetIf(state.Nobody, t.number) {
+		return api.Result{}, api.ErrBlocked
+	}
+	return t.goOn(next)
+}
+
+func (t *Thread) freeLock() { t.shared.Lock.Set(state.Nobody) }
