@@ -1,6 +1,7 @@
 package readmost
 
 import (
+	"fmt"
 	"maps"
 	"slices"
 
@@ -55,6 +56,31 @@ func (d *docMap) Look() api.View {
 	return api.View{Read: list(d.read), Amended: d.amended, HasDirty: d.dirty != nil, Dirty: list(d.dirty), Misses: d.misses, Holder: d.holder}
 }
 
+// text tells all of it; which entries are one and the same is told by numbers.
+func (d *docMap) text() string {
+	numbers := map[*docEntry]int{}
+	tell := func(e *docEntry) string {
+		if e == nil {
+			return "none"
+		}
+		if numbers[e] == 0 {
+			numbers[e] = len(numbers) + 1
+		}
+		return fmt.Sprint("#", numbers[e], *e)
+	}
+	text := fmt.Sprint(d.amended, d.misses, d.holder, d.dirty != nil)
+	for _, table := range []map[int]*docEntry{d.read, d.dirty} {
+		for _, key := range slices.Sorted(maps.Keys(table)) {
+			text += fmt.Sprint(" ", key, tell(table[key]))
+		}
+		text += "."
+	}
+	for _, t := range d.threads {
+		text += fmt.Sprint(t.op, t.at, tell(t.e), t.seen, t.rest)
+	}
+	return text
+}
+
 func (d *docMap) Begin(thread int, op api.Op) { d.threads[thread] = docThread{op: op, at: "1"} }
 
 func (d *docMap) Step(thread int) (api.Result, api.Errno) {
@@ -68,9 +94,13 @@ func (d *docMap) Step(thread int) (api.Result, api.Errno) {
 	var found int // 0: nothing
 	switch t.op.Kind {
 	case api.Load:
-		t.at, found = d.load(thread, t)
+		t.at, found = d.load(thread, t, t.at)
 	case api.Store:
 		t.at, found = d.store(thread, t)
+	case api.Delete:
+		t.at, found = d.remove(thread, t)
+	case api.Replace:
+		t.at, found = d.replace(thread, t)
 	}
 	if t.at != "done" {
 		return api.Result{}, api.OK
@@ -81,14 +111,17 @@ func (d *docMap) Step(thread int) (api.Result, api.Errno) {
 
 func (d *docMap) isBlocked(thread int) bool {
 	t := d.threads[thread]
-	takesLock := t.op.Kind == api.Load && t.at == "2" || t.op.Kind == api.Store && t.at == "4"
+	takesLock := t.at == "2"
+	if t.op.Kind == api.Store {
+		takesLock = t.at == "4"
+	}
 	return takesLock && d.holder != -1 && d.holder != thread
 }
 
-// load does a step and tells at which one it goes on, and which value was found.
-func (d *docMap) load(thread int, t *docThread) (string, int) {
+// load does the step at and tells at which one it goes on, and which value was found.
+func (d *docMap) load(thread int, t *docThread, at string) (string, int) {
 	inRead, has := d.read[t.op.Key]
-	switch t.at {
+	switch at {
 	case "1":
 		switch {
 		case has:
@@ -139,6 +172,67 @@ func (d *docMap) load(thread int, t *docThread) (string, int) {
 		return "done", t.e.value
 	}
 	return "done", 0
+}
+
+// remove is as load, for Delete.
+func (d *docMap) remove(thread int, t *docThread) (string, int) {
+	switch t.at {
+	case "5":
+		delete(d.dirty, t.op.Key)
+		return "6", 0
+	case "8":
+		if t.seen = *t.e; t.seen.state == api.Value {
+			return "9", 0
+		}
+		return "done", 0
+	case "9":
+		if *t.e != t.seen {
+			return "8", 0
+		}
+		*t.e = docEntry{state: api.Empty}
+		return "done", t.seen.value
+	}
+	return d.asLoad(thread, t), 0
+}
+
+// Which of Load's steps a step of Delete is as, and the other way round where Load goes on.
+var (
+	deletesAsLoads = map[string]string{"1": "1", "2": "2", "3": "3", "4": "4", "6": "5", "6a": "5a", "6b": "5b", "6c": "5c", "7": "6"}
+	loadsAsDeletes = map[string]string{"2": "2", "3": "3", "4": "4", "5a": "6a", "5b": "6b", "5c": "6c", "6": "7", "7": "8", "done": "done"}
+)
+
+// asLoad does Delete's steps that are as Load's, and tells at which of Delete's it goes on.
+func (d *docMap) asLoad(thread int, t *docThread) string {
+	next, _ := d.load(thread, t, deletesAsLoads[t.at])
+	if t.at == "4" {
+		return "5"
+	}
+	return loadsAsDeletes[next]
+}
+
+// replace is as load, for Replace.
+func (d *docMap) replace(thread int, t *docThread) (string, int) {
+	old := docEntry{api.Value, t.op.Old}
+	switch t.at {
+	case "4":
+		d.asLoad(thread, t)
+		if t.e == nil {
+			return "7", 0
+		}
+		return "6", 0
+	case "8":
+		if *t.e == old {
+			return "9", 0
+		}
+		return "done", 0
+	case "9":
+		if *t.e != old {
+			return "8", 0
+		}
+		*t.e = docEntry{api.Value, t.op.Value}
+		return "done", t.op.Old
+	}
+	return d.asLoad(thread, t), 0
 }
 
 // store is as load.

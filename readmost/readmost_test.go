@@ -57,6 +57,8 @@ func goes(t *testing.T, m *Map, thread, steps int) {
 	}
 }
 
+var nothing = api.Result{Done: true}
+
 func found(value int) api.Result { return api.Result{Done: true, Found: true, Value: value} }
 
 // fill lets a new map have keys: READ has 0, DIRTY 0 and 7.
@@ -191,7 +193,7 @@ func TestP5LoadFromAMapWithoutKeys(t *testing.T) {
 				wantBegin(t, m, thread, api.Op{Key: key}, api.OK)
 			}
 			for thread := range threads {
-				wantStep(t, m, thread, api.Result{Done: true}, api.OK)
+				wantStep(t, m, thread, nothing, api.OK)
 				wantStep(t, m, thread, api.Result{}, api.ErrIdle)
 			}
 		}
@@ -217,7 +219,7 @@ func TestP5LoadsThatWaitForTheLock(t *testing.T) {
 	}
 	wantView(t, m, filledView(1, 5))
 	wantStep(t, m, 0, api.Result{}, api.ErrBlocked)
-	wantStep(t, m, 5, api.Result{Done: true}, api.OK)
+	wantStep(t, m, 5, nothing, api.OK)
 	wantStep(t, m, 0, api.Result{}, api.OK) // 2
 	wantView(t, m, filledView(1, 0))
 	m.Close()
@@ -225,20 +227,8 @@ func TestP5LoadsThatWaitForTheLock(t *testing.T) {
 	wantView(t, m, filledView(1, 0))
 }
 
-// For now: the other operations are taken, and their steps do nothing.
-func TestStepsOfTheOthersDoNothing(t *testing.T) {
-	for _, op := range []api.Op{{Kind: api.Delete}, {Kind: api.Replace, Value: 1, Old: 2}} {
-		m := newMap(t, 1)
-		wantBegin(t, m, 0, op, api.OK)
-		for range 40 {
-			wantStep(t, m, 0, api.Result{}, api.OK)
-		}
-		wantBeginning(t, m)
-	}
-}
-
-// The document's examples, as far as they store and load.
-func TestP6TheExamples(t *testing.T) {
+// The document's examples, with views of all that stands there.
+func TestP5ToP8TheExamples(t *testing.T) {
 	three, four := api.Entry{Key: 3, Value: 5}, api.Entry{Key: 4, Value: 6}
 	m := newMap(t, 1)
 	does(t, m, 0, store(3, 5), 8, found(5))
@@ -246,12 +236,68 @@ func TestP6TheExamples(t *testing.T) {
 	does(t, m, 0, load(3), 10, found(5))
 	wantView(t, m, api.View{Read: []api.Entry{three}, Holder: -1})
 	does(t, m, 0, load(3), 2, found(5))
-	does(t, m, 0, load(4), 1, api.Result{Done: true})
+	does(t, m, 0, load(4), 1, nothing)
+	does(t, m, 0, remove(3), 3, found(5))
+	wantView(t, m, api.View{Read: []api.Entry{{Key: 3, State: api.Empty}}, Holder: -1})
+	wantBegin(t, m, 0, store(4, 6), api.OK)
+	goes(t, m, 0, 6)
+	wantView(t, m, api.View{Read: []api.Entry{{Key: 3, State: api.Gone}}, HasDirty: true, Holder: 0})
+	goes(t, m, 0, 2)
+	wantStep(t, m, 0, found(6), api.OK)
+	wantView(t, m, api.View{Read: []api.Entry{{Key: 3, State: api.Gone}}, Amended: true, HasDirty: true, Dirty: []api.Entry{four}, Holder: -1})
+	three.Value = 7
+	does(t, m, 0, store(3, 7), 8, found(7))
+	wantView(t, m, api.View{Read: []api.Entry{three}, Amended: true, HasDirty: true, Dirty: []api.Entry{three, four}, Holder: -1})
+}
+
+// READ has the key without an empty entry between: it is stored into, and stands in a new DIRTY.
+func TestP6StoresOverAndBeside(t *testing.T) {
+	three, four := api.Entry{Key: 3, Value: 5}, api.Entry{Key: 4, Value: 6}
+	m := newMap(t, 1)
+	does(t, m, 0, store(3, 5), 8, found(5))
+	does(t, m, 0, load(3), 10, found(5))
 	does(t, m, 0, store(4, 6), 9, found(6))
 	wantView(t, m, api.View{Read: []api.Entry{three}, Amended: true, HasDirty: true, Dirty: []api.Entry{three, four}, Holder: -1})
 	three.Value = 7
 	does(t, m, 0, store(3, 7), 3, found(7))
 	wantView(t, m, api.View{Read: []api.Entry{three}, Amended: true, HasDirty: true, Dirty: []api.Entry{three, four}, Holder: -1})
+}
+
+// The example of two threads, and others that wait at the same lock.
+func TestP5ToP8WhoWaitsForTheLock(t *testing.T) {
+	m := newMap(t, 6)
+	does(t, m, 0, store(3, 5), 8, found(5))
+	for thread, op := range []api.Op{store(4, 6), store(5, 7), load(3), remove(3), replace(3, 5, 8), replace(7, 5, 8)} {
+		wantBegin(t, m, thread, op, api.OK)
+		goes(t, m, thread, 1)
+	}
+	goes(t, m, 0, 1)
+	for range 4 {
+		before := m.Look()
+		for thread := 1; thread < 6; thread++ {
+			wantStep(t, m, thread, api.Result{}, api.ErrBlocked)
+			wantStep(t, m, thread, api.Result{}, api.ErrBlocked)
+		}
+		wantView(t, m, before)
+		if before.Holder != 0 {
+			t.Errorf("P9: the lock's holder = %d", before.Holder)
+		}
+		if r, errno := m.Step(0); errno != api.OK || r.Done && r != found(6) {
+			t.Errorf("P6: Step = %+v, %d", r, errno)
+		}
+	}
+	goes(t, m, 5, 3) // 2, 3, 4: there is no key 7
+	wantStep(t, m, 5, nothing, api.OK)
+	goes(t, m, 3, 10) // 2 to 8: DIRTY has the key 4 alone then, and takes READ's place
+	wantStep(t, m, 3, found(5), api.OK)
+	for _, thread := range []int{2, 4} { // 2, 3: READ is not amended any more
+		goes(t, m, thread, 2)
+		wantStep(t, m, thread, nothing, api.OK)
+	}
+	goes(t, m, 1, 7)
+	wantStep(t, m, 1, found(7), api.OK)
+	four, five := api.Entry{Key: 4, Value: 6}, api.Entry{Key: 5, Value: 7}
+	wantView(t, m, api.View{Read: []api.Entry{four}, Amended: true, HasDirty: true, Dirty: []api.Entry{four, five}, Holder: -1})
 }
 
 func TestP6AllKeysAndTheEdgesOfValues(t *testing.T) {
@@ -347,7 +393,7 @@ func TestP2MapsDoNotTouchOneAnother(t *testing.T) {
 	one.Close()
 	wantBeginning(t, other)
 	wantBegin(t, other, 0, api.Op{Key: 7}, api.OK)
-	wantStep(t, other, 0, api.Result{Done: true}, api.OK)
+	wantStep(t, other, 0, nothing, api.OK)
 }
 
 func TestP2AViewIsTheCallers(t *testing.T) {
@@ -383,11 +429,9 @@ func TestP1CallsFromManySides(t *testing.T) {
 	var group sync.WaitGroup
 	for thread := range 6 {
 		group.Go(func() {
-			for range 100 {
-				m.Begin(thread, store(thread, 1+thread))
+			for n := range 400 {
+				m.Begin(thread, []api.Op{store(thread, 1+thread), load(thread), replace(thread, 1+thread, 1+thread), remove(7)}[n/8%4])
 				m.Look()
-				m.Step(thread)
-				m.Begin(thread, load(thread))
 				m.Step(thread)
 			}
 			m.Close()

@@ -100,6 +100,13 @@ func (s *Shared) PutInDirty(key int, e *Entry) {
 	s.Dirty.Set(dirty)
 }
 
+// TakeFromDirty lets the dirty table lose key, if it has it.
+func (s *Shared) TakeFromDirty(key int) {
+	dirty := s.Dirty.Look()
+	dirty.Table[key] = nil
+	s.Dirty.Set(dirty)
+}
+
 // View tells what stands where.
 func (s *Shared) View() api.View {
 	read, dirty := s.Read.Look(), s.Dirty.Look()

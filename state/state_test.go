@@ -145,3 +145,32 @@ func TestPutInDirtyPutsIntoDirtyAlone(t *testing.T) {
 		t.Errorf("behind PutInDirty under a key that was there: %v", list)
 	}
 }
+
+func TestTakeFromDirtyTakesFromDirtyAlone(t *testing.T) {
+	s := filled()
+	seen := s.Dirty.Look()
+	s.TakeFromDirty(0)
+	s.TakeFromDirty(7)
+	if v := s.View(); !isFilled(v) {
+		t.Errorf("behind TakeFromDirty of keys that it has not the view = %+v", v)
+	}
+	s.TakeFromDirty(3)
+	if v := s.View(); !slices.Equal(v.Dirty, filledDirty[1:]) || !slices.Equal(v.Read, filledRead) {
+		t.Errorf("behind TakeFromDirty the view = %+v", v)
+	}
+	s.TakeFromDirty(4)
+	if v := s.View(); len(v.Dirty) != 0 || !v.HasDirty {
+		t.Errorf("behind TakeFromDirty of the last key the view = %+v", v)
+	}
+	if seen.Table[3] == nil || seen.Table[4] == nil {
+		t.Error("TakeFromDirty took from a table that was looked at before")
+	}
+}
+
+func TestTakeFromDirtyMakesNoDirty(t *testing.T) {
+	s := New()
+	s.TakeFromDirty(3)
+	if s.View().HasDirty {
+		t.Error("behind TakeFromDirty there is a DIRTY that was not there")
+	}
+}

@@ -7,14 +7,6 @@ import (
 	"readmost/state"
 )
 
-func TestLoadFromNothing(t *testing.T) {
-	s := state.New()
-	for _, key := range []int{0, 7} {
-		wantStep(t, loading(s, 0, key), "1", nothing)
-		wantView(t, s, "1", api.View{Holder: -1})
-	}
-}
-
 func TestLoadWhatReadHas(t *testing.T) {
 	read := state.Table{0: entryWith(api.Value, 1), 3: entryWith(api.Empty, 0), 5: entryWith(api.Gone, 0), 7: entryWith(api.Value, 1000)}
 	for _, amended := range []bool{false, true} {
@@ -69,51 +61,6 @@ func TestLoadThatMisses(t *testing.T) {
 	wantSteps(t, last, "1", "2", "3", "4", "5", "5a", "5b", "5c")
 	wantStep(t, last, "6", nothing)
 	wantView(t, s, "the third miss", api.View{Read: before.Dirty, Holder: -1})
-}
-
-func TestLoadBlocked(t *testing.T) {
-	s := sharing(state.Table{}, true, state.Table{3: entryWith(api.Value, 5), 4: entryWith(api.Value, 6)})
-	one, other := loading(s, 0, 3), loading(s, 5, 4)
-	wantStep(t, one, "1", goesOn)
-	wantStep(t, other, "the other's 1", goesOn)
-	wantStep(t, one, "2", goesOn)
-	for _, step := range []string{"3", "4", "5", "6"} {
-		wantBlocked(t, s, other)
-		wantStep(t, one, step, goesOn)
-	}
-	wantStep(t, other, "the other's 2", goesOn)
-	if holder := s.View().Holder; holder != 5 {
-		t.Errorf("P9: the lock's holder = %d", holder)
-	}
-	wantStep(t, one, "7", found(5))
-}
-
-// Between 1 and 3 another thread puts DIRTY in READ's place.
-func TestLoadThatFindsReadChanged(t *testing.T) {
-	for key, want := range map[int][]api.Result{3: {goesOn, found(5)}, 6: {nothing}} {
-		s := sharing(state.Table{}, true, state.Table{3: entryWith(api.Value, 5)})
-		late, first := loading(s, 0, key), loading(s, 1, 3)
-		wantStep(t, late, "1", goesOn)
-		finish(t, first)
-		wantStep(t, late, "2", goesOn)
-		wantStep(t, late, "3", goesOn)
-		for _, result := range want {
-			wantStep(t, late, "6 and 7", result)
-		}
-		wantView(t, s, "these", api.View{Read: []api.Entry{value(3, 5)}, Holder: -1})
-	}
-}
-
-// READ may have the key at 3 and be amended: then DIRTY is not looked at, and nothing is missed.
-func TestLoadThatFindsReadChangedAndAmended(t *testing.T) {
-	s := sharing(state.Table{}, true, state.Table{3: entryWith(api.Value, 5)})
-	th := loading(s, 0, 3)
-	wantStep(t, th, "1", goesOn)
-	s.Read.Set(state.Read{Table: s.Dirty.Look().Table, Amended: true})
-	before := s.View()
-	wantSteps(t, th, "2", "3", "6")
-	wantStep(t, th, "7", found(5))
-	wantView(t, s, "these", before)
 }
 
 // A load tells how it stands with the entry at its last step, not when it found it.

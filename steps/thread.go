@@ -43,17 +43,11 @@ func (t *Thread) Step() (api.Result, api.Errno) {
 }
 
 func (t *Thread) firstOf(kind int) step {
-	switch kind {
-	case api.Load:
-		return t.loadLooksAtRead
-	case api.Store:
+	if kind == api.Store {
 		return t.storeLooksAtRead
 	}
-	return t.stands
+	return t.findLooksAtRead
 }
-
-// stands is the only step of operations whose own steps are not built yet.
-func (t *Thread) stands() (api.Result, api.Errno) { return t.goOn(t.stands) }
 
 func (t *Thread) goOn(next step) (api.Result, api.Errno) {
 	t.next = next

@@ -40,6 +40,18 @@ func storing(s *state.Shared, number, key, value int) *Thread {
 	return th
 }
 
+func deleting(s *state.Shared, number, key int) *Thread {
+	th := New(number, s)
+	th.Begin(api.Op{Kind: api.Delete, Key: key})
+	return th
+}
+
+func replacing(s *state.Shared, number, key, old, value int) *Thread {
+	th := New(number, s)
+	th.Begin(api.Op{Kind: api.Replace, Key: key, Old: old, Value: value})
+	return th
+}
+
 func wantStep(t *testing.T, th *Thread, what string, want api.Result) {
 	t.Helper()
 	promise := [...]string{"P5", "P6", "P7", "P8"}[th.op.Kind]
@@ -72,15 +84,16 @@ func wantSteps(t *testing.T, th *Thread, steps ...string) {
 	}
 }
 
-// finish lets a thread that nobody blocks come to its end.
-func finish(t *testing.T, th *Thread) {
+// finish lets a thread that nobody blocks come to its end, and tells what that was.
+func finish(t *testing.T, th *Thread) api.Result {
 	t.Helper()
 	for range 30 {
 		if r, _ := th.Step(); r.Done {
-			return
+			return r
 		}
 	}
-	t.Fatal("P5, P6: a thread alone is not done within 30 steps")
+	t.Fatal("P12: a thread alone is not done within 30 steps")
+	return nothing
 }
 
 func wantBlocked(t *testing.T, s *state.Shared, th *Thread) {
@@ -119,19 +132,5 @@ func TestStepOfAThreadAtNothing(t *testing.T) {
 	th := New(0, state.New())
 	if r, errno := th.Step(); r != (api.Result{}) || errno != api.ErrIdle || th.Busy() {
 		t.Errorf("P5: Step of a thread at nothing = %+v, %d", r, errno)
-	}
-}
-
-// For now: a thread at another operation stays at it, and what threads share stays as it is.
-func TestStepsOfTheOthersDoNothing(t *testing.T) {
-	for _, kind := range []int{api.Delete, api.Replace} {
-		s := sharing(state.Table{2: entryWith(api.Value, 9)}, true, state.Table{3: entryWith(api.Value, 5)})
-		before := s.View()
-		th := New(0, s)
-		th.Begin(api.Op{Kind: kind, Key: 2, Value: 1, Old: 9})
-		for range 40 {
-			wantStep(t, th, "a step that does nothing", goesOn)
-		}
-		wantView(t, s, "these", before)
 	}
 }
